@@ -42,6 +42,8 @@ func (a *asker) countNames() int {
 	return len(a.Ins) + len(a.Outs) + len(a.Vars) + len(a.Cells)
 }
 
+// isShort asks the expressions of all statements, of those of no form, too: what
+// is too long is told ahead of what has no form.
 func (a *asker) isShort() bool {
 	all := meter{left: maxStatements, deepest: maxDeep}
 	if a.countNames() > api.MaxCells || !all.statements(a.Body, 1) {
@@ -49,7 +51,7 @@ func (a *asker) isShort() bool {
 	}
 	for s := range statements(a.Body) {
 		one := meter{left: maxParts, deepest: maxDeep}
-		if isForm(s.Form) && !one.parts(s.E, 1) {
+		if !one.parts(s.E, 1) {
 			return false
 		}
 	}

@@ -58,10 +58,11 @@ func (m *meter) statements(list []api.Stmt, deep int) bool {
 }
 
 // step tells whether all statements may come, with those within them and the
-// parts of their expressions.
+// parts of their expressions. A statement of no form has an expression, too, for
+// each of the forms has one.
 func (m *meter) step(list []api.Stmt, deep int) bool {
 	for _, s := range list {
-		if !m.take(deep) || isForm(s.Form) && !m.parts(s.E, deep+1) {
+		if !m.take(deep) || !m.parts(s.E, deep+1) {
 			return false
 		}
 		if !m.step(thenOf(s), deep+1) || !m.step(elseOf(s), deep+1) {

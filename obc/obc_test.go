@@ -262,11 +262,13 @@ func TestP1701LongStatements(t *testing.T) {
 	odd.Then, odd.Else = slices.Repeat(list(y), 20001), list(nested(y, 500, yes))
 	refused(t, of(odd), api.OK)
 	odd.Form = 4
-	odd.E = chain(401)
 	refused(t, of(odd), api.ErrForm)
 	refused(t, of(make([]api.Stmt, 20000)...), api.ErrForm)
 	refused(t, of(make([]api.Stmt, 20001)...), api.ErrLong)
 }
+
+// noForms are numbers that are no form of a statement.
+func noForms() []int { return []int{0, -1, api.SIf + 1, math.MinInt, math.MaxInt} }
 
 func TestP1701LongExpressions(t *testing.T) {
 	of := func(e api.CExp) []api.Step {
@@ -295,6 +297,19 @@ func TestP1701LongExpressions(t *testing.T) {
 		want api.Errno
 	}{{399, api.OK}, {400, api.ErrLong}} {
 		refused(t, step("x.i8 b.bool", "", "", "", fork(bin(api.OpEq, ref("x"), chain(r.deep)), nil, nil)), r.want)
+	}
+	// a statement of no form has an expression, too
+	for _, form := range noForms() {
+		for _, r := range []struct {
+			e    api.CExp
+			want api.Errno
+		}{
+			{chain(400), api.ErrForm}, {chain(401), api.ErrLong}, {un(api.OpNot, wide(1999)), api.ErrForm}, {wide(2001), api.ErrLong}, {api.CExp{Form: 77, Kids: make([]api.CExp, 1999)}, api.ErrForm}, {api.CExp{Form: 77, Kids: make([]api.CExp, 2000)}, api.ErrLong},
+		} {
+			odd := api.Stmt{Form: form, Name: "y", E: r.e}
+			refused(t, step("x.i8 b.bool", "y.i8", "", "", odd), r.want)
+			refused(t, step("x.i8 b.bool", "y.i8", "", "", set("y", ref("x")), fork(ref("b"), nil, list(fork(ref("b"), list(odd), nil)))), r.want)
+		}
 	}
 	// each has its own bounds
 	refused(t, step("x.i8", "y.i8", "", "", slices.Repeat(list(set("y", un(api.OpNot, wide(1999)))), 500)...), api.OK)
@@ -369,6 +384,7 @@ func TestP1701Order(t *testing.T) {
 	}{
 		{api.ErrLong, "", "", list(set("y", chain(401)))},
 		{api.ErrLong, "", "", list(nested(set("y", x), 401, func(int) bool { return true }))},
+		{api.ErrLong, "", "", list(api.Stmt{Form: 9, Name: "y", E: chain(401)})},
 		{api.ErrTwice, "two.i8 two.i8", "", nil},
 		{api.ErrTwice, "three.i8", "three.i8.0", nil},
 		{api.ErrType, "kind.none", "", nil},
@@ -416,10 +432,22 @@ func TestSize(t *testing.T) {
 		{nil, 0}, {list(set("y", x)), 2}, {list(set("y", x), store("m", bin(api.OpAdd, x, x))), 6}, {list(fork(x, nil, nil)), 2}, {list(fork(x, list(set("y", x)), nil)), 4}, {list(fork(x, nil, list(set("y", x)))), 4}, {list(fork(un(api.OpNot, x), list(set("y", choose(x, x, un(api.OpNot, x))), fork(x, list(store("m", x)), nil)), list(set("y", cast(api.I8, x))))), 16},
 		{slices.Repeat(list(set("y", wide(1999))), 20000), 20000 * 2000}, {list(nested(set("y", chain(400)), 400, func(i int) bool { return i%2 == 0 })), 399*2 + 401}, {list(set("y", chain(1<<16-1))), 1 << 16},
 		// what a form does not have does not count
-		{list(api.Stmt{Form: api.SSet, Name: "y", E: x, Then: list(set("y", x)), Else: list(set("y", x))}), 2}, {list(api.Stmt{Form: api.SStore, Name: "y", E: x, Then: list(set("y", x)), Else: list(set("y", x))}), 2}, {list(api.Stmt{Form: 4, E: x, Then: list(set("y", x))}), 1},
+		{list(api.Stmt{Form: api.SSet, Name: "y", E: x, Then: list(set("y", x)), Else: list(set("y", x))}), 2}, {list(api.Stmt{Form: api.SStore, Name: "y", E: x, Then: list(set("y", x)), Else: list(set("y", x))}), 2},
 	} {
 		if got := obc.Size(api.Step{Body: r.body}); got != r.want {
 			t.Errorf("%.300s: %d, not %d", show(api.Step{Body: r.body}), got, r.want)
+		}
+	}
+	// a statement of no form has an expression, too, but no other statements within it
+	for _, form := range noForms() {
+		odd := api.Stmt{Form: form, Name: "y", E: bin(api.OpAdd, x, x), Then: list(set("y", x)), Else: list(set("y", x))}
+		for _, r := range []struct {
+			body []api.Stmt
+			want int
+		}{{list(api.Stmt{Form: form}), 2}, {list(odd), 4}, {list(odd, set("y", x)), 6}, {list(fork(x, list(odd), list(odd))), 10}} {
+			if got := obc.Size(api.Step{Body: r.body}); got != r.want {
+				t.Errorf("%s: %d, not %d", show(api.Step{Body: r.body}), got, r.want)
+			}
 		}
 	}
 	if got := obc.Size(step("x.i8", "y.i8", "v.i8", "m.i8.0")); got != 0 {
